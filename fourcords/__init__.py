@@ -1,0 +1,1 @@
+"""Fourcords: lists of weighted rows thinned to four rows an unknown."""
