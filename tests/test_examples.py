@@ -1,0 +1,83 @@
+"""The examples of the interface, as they stand there, and those of README.md."""
+
+import doctest
+import unittest
+from pathlib import Path
+
+README = Path(__file__).resolve().parent.parent / "README.md"
+
+EXAMPLES = '''
+>>> from fourcords.ratios import fraction, added, multiplied, compared, floored, ceiling, vector
+>>> [fraction(6, -4), added((1, 2), (1, 3)), multiplied((2, 3), (3, 4)), compared((1, 2), (2, 4))]
+[(-3, 2), (5, 6), (1, 2), 0]
+>>> [floored((-3, 2)), ceiling((-3, 2)), vector((2, -4), 6)]
+[-2, -1, ((1, -2), 3)]
+
+>>> from fourcords.forms import Form
+>>> one = Form([[2, 1], [1, 2]])
+>>> [one((1, -1)), one.between((1, 0), (0, 1)), (one + Form.square((1, 1))).entries]
+[(2, 1), (1, 1), ((3, 2), (2, 3))]
+>>> [Form([[4, 2], [2, 0]], bottom=6).entries, Form([[4, 2], [2, 0]], bottom=6).bottom]
+[((2, 1), (1, 0)), 3]
+
+>>> from fourcords.judging import judge, is_squares, leads, free_points
+>>> judge(Form([[2, 1], [1, 2]])).squares
+((1, 2, (2, 1)), (3, 2, (0, 1)))
+>>> [judge(Form([[1, 2], [2, 1]])).holds,
+...  is_squares(Form([[2, 1], [1, 2]]), [(1, 1, (1, 0)), (1, 1, (0, 1)), (1, 1, (1, 1))])]
+[False, True]
+>>> [leads(Form([[1, 1], [1, 1]])), free_points(Form([[1, 1], [1, 1]]))]
+[(0,), ((-1, 1),)]
+
+>>> from fourcords.rowlists import RowList
+>>> rows = RowList(2, [((1, 0), 2), ((1, 1), 4)], bottom=6)
+>>> [rows.pairs, rows.bottom, rows.form.entries, rows.form.bottom]
+[(((1, 0), 1), ((1, 1), 2)), 3, ((3, 2), (2, 2)), 3]
+
+>>> from fourcords.sparing import dependence, spared
+>>> rows = RowList(1, [((1,), 1), ((2,), 1)])
+>>> [dependence(rows) is None, len(spared(rows)), spared(rows).form == rows.form]
+[False, 1, True]
+
+>>> from fourcords.bases import coordinates, basis_factor
+>>> rows = RowList(2, [((1, 0), 1), ((0, 1), 1), ((1, 1), 1)])
+>>> [coordinates(rows, (0, 2), 1), basis_factor(rows)]
+[((-1, 1), 1), (5, 1)]
+
+>>> from fourcords.comparing import within
+>>> held = within(Form([[1]]), Form([[3]]), (1, 1), (4, 1))
+>>> [held.holds, held.under, held.over, within(Form([[1]]), Form([[3]]), (1, 1), (2, 1)).side]
+[True, ((2, 1, (1,)),), ((1, 1, (1,)),), 'over']
+
+>>> from fourcords.factors import least_high, greatest_low
+>>> [least_high(Form([[1]]), Form([[3]]), bottom=2), greatest_low(Form([[2]]), Form([[3]]), bottom=3)]
+[6, 4]
+
+>>> from fourcords.inverses import inverse, solve, paired, determinant, changed_inverse
+>>> one = Form([[2, 1], [1, 2]])
+>>> [inverse(one).entries, inverse(one).bottom, inverse(Form([[1, 1], [1, 1]])).entries]
+[((2, -1), (-1, 2)), 3, ((1, 0), (0, 0))]
+>>> [solve(one, ((1, 0), 1)), paired(one, Form([[1, 1], [1, 1]])), determinant(one)]
+[((2, -1), 3), (6, 1), (3, 1)]
+>>> [changed_inverse(Form([[1]]), (1,), (1, 1)).entries, changed_inverse(Form([[1]]), (1,), (1, 1)).bottom]
+[((1,),), 2]
+'''
+
+
+class Examples(unittest.TestCase):
+    def check(self, text, count):
+        example = doctest.DocTestParser().get_doctest(text, {}, "examples", None, 0)
+        told = []
+        results = doctest.DocTestRunner().run(example, out=told.append)
+        self.assertEqual((results.failed, "".join(told)), (0, ""))
+        self.assertEqual(results.attempted, count)
+
+    def test_examples_of_the_interface(self):
+        self.check(EXAMPLES, 30)
+
+    def test_examples_of_the_readme(self):
+        self.check(README.read_text(encoding="ascii").replace("```", ""), 10)
+
+
+if __name__ == "__main__":
+    unittest.main()

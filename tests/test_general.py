@@ -1,0 +1,216 @@
+"""Points 2 to 5, for every function and method that has landed."""
+
+import copy
+import unittest
+from math import gcd
+
+from fourcords import bases, comparing, factors, inverses, judging, ratios, sparing
+from fourcords.errors import CordError
+from fourcords.forms import Form
+from fourcords.rowlists import RowList
+from reference import BIG, HUGE, as_lists, as_tuples, has_list
+
+FORM = Form([[2, 1, 0], [1, 2, 0], [0, 0, 0]], bottom=3)
+OTHER = Form([[4, 1, 0], [1, 4, 0], [0, 0, 0]])
+BELOW = Form([[1, 2, 0], [2, 1, 0], [0, 0, 0]])
+PAIRS = [([1, 0, 2], 2), ([0, 1, 1], 4), ([1, 1, 3], 6), ([1, 0, 2], 2), ([0, 0, 0], 8)]
+ROWS = RowList(3, PAIRS, bottom=6)
+FEW = RowList(3, PAIRS[:1])
+SQUARES = [(2, 4, [2, 1, 0]), (3, 2, [0, 1, 0])]
+
+# What is asked, and its arguments with lists and with fractions and vectors that are not in lowest terms.
+QUESTIONS = [
+    ("vector", ratios.vector, [[2, 4, -6], -4]),
+    ("added", ratios.added, [[2, 4], [3, 9]]),
+    ("multiplied", ratios.multiplied, [[2, 4], [3, 9]]),
+    ("compared", ratios.compared, [[2, 4], [3, 9]]),
+    ("floored", ratios.floored, [[-6, 4]]),
+    ("ceiling", ratios.ceiling, [[-6, 4]]),
+    ("Form", Form, [[[2, 1], [1, 2]]]),
+    ("Form.zero", Form.zero, [3]),
+    ("Form.square", Form.square, [[1, -2, 0]]),
+    ("value", FORM, [[1, 2, 3]]),
+    ("between", FORM.between, [[1, 2, 3], [3, 2, 1]]),
+    ("at", FORM.at, [[[2, 4, 6], 4]]),
+    ("applied", FORM.applied, [[[2, 4, 6], 4]]),
+    ("form.scaled", FORM.scaled, [[-6, 4]]),
+    ("one + two", lambda: FORM + OTHER, []),
+    ("one - two", lambda: FORM - OTHER, []),
+    ("is_squares", judging.is_squares, [FORM, SQUARES]),
+    ("judge", judging.judge, [FORM]),
+    ("judge below", judging.judge, [BELOW]),
+    ("leads", judging.leads, [FORM]),
+    ("rank", judging.rank, [FORM]),
+    ("free_points", judging.free_points, [FORM]),
+    ("free_points below", judging.free_points, [BELOW]),
+    ("RowList", RowList, [3, PAIRS]),
+    ("BadRow", RowList, [2, PAIRS]),
+    ("BadWeight", RowList, [1, [[[1], 1], [[1], 0]]]),
+    ("rows.scaled", ROWS.scaled, [[6, 4]]),
+    ("picked", ROWS.picked, [[2, 0, 2]]),
+    ("rows + rows", lambda: ROWS + FEW, []),
+    ("dependence", sparing.dependence, [ROWS]),
+    ("spared", sparing.spared, [ROWS]),
+    ("coordinates", bases.coordinates, [ROWS, [0, 1], 2]),
+    ("NoBasis", bases.coordinates, [ROWS, [0, 3], 2]),
+    ("basis_of", bases.basis_of, [ROWS]),
+    ("basis_factor", bases.basis_factor, [ROWS]),
+    ("missed_point", bases.missed_point, [ROWS, FEW]),
+    ("within", comparing.within, [FORM, OTHER, [2, 2], [30, 2]]),
+    ("within under", comparing.within, [FORM, OTHER, [60, 2], [30, 2]]),
+    ("within over", comparing.within, [FORM, OTHER, [2, 2], [3, 2]]),
+    ("is_within", comparing.is_within, [FORM, FORM, [0, 2], [2, 2], SQUARES, []]),
+    ("inverse", inverses.inverse, [FORM]),
+    ("solve", inverses.solve, [FORM, [[2, 4, 0], 6]]),
+    ("NoSolution", inverses.solve, [FORM, [[2, 4, 2], 6]]),
+    ("paired", inverses.paired, [FORM, OTHER]),
+    ("sandwich", inverses.sandwich, [FORM, OTHER]),
+    ("changed_inverse", inverses.changed_inverse, [FORM, [1, 2, 0], [-2, 6]]),
+    ("NoInverse", inverses.changed_inverse, [Form([[1]]), [1], [-2, 2]]),
+    ("SizesDiffer", inverses.changed_inverse, [FORM, [1], [-2, 2]]),
+    ("determinant", inverses.determinant, [FORM]),
+]
+
+LOWEST = {
+    "added": [(1, 2), (1, 3)], "multiplied": [(1, 2), (1, 3)], "compared": [(1, 2), (1, 3)], "floored": [(-3, 2)],
+    "ceiling": [(-3, 2)], "at": [((1, 2, 3), 2)], "applied": [((1, 2, 3), 2)], "form.scaled": [(-3, 2)],
+    "rows.scaled": [(3, 2)], "within": [FORM, OTHER, (1, 1), (15, 1)], "within under": [FORM, OTHER, (30, 1), (15, 1)],
+    "within over": [FORM, OTHER, (1, 1), (3, 2)], "solve": [FORM, ((1, 2, 0), 3)], "NoSolution": [FORM, ((1, 2, 1), 3)],
+    "changed_inverse": [FORM, (1, 2, 0), (-1, 3)], "is_within": [FORM, FORM, (0, 1), (1, 1), [(1, 2, (2, 1, 0)),
+                                                                                         (3, 2, (0, 1, 0))], ()],
+    "is_squares": [FORM, [(1, 2, (2, 1, 0)), (3, 2, (0, 1, 0))]], "vector": [(-1, -2, 3), 2],
+    "NoInverse": [Form([[1]]), (1,), (-1, 1)],
+}
+
+
+def plain(answer):
+    """The answer with the fields of objects instead of the objects."""
+    if isinstance(answer, (Form, RowList)) or hasattr(answer, "holds"):
+        return {name: plain(field) for name, field in vars(answer).items()}
+    return answer
+
+
+def answer_to(ask, arguments):
+    try:
+        return plain(ask(*arguments))
+    except CordError as error:
+        return type(error), vars(error)
+
+
+def lists_in(answer):
+    if isinstance(answer, dict):
+        return any(lists_in(part) for part in answer.values())
+    if isinstance(answer, tuple):
+        return any(lists_in(part) for part in answer)
+    return has_list(answer)
+
+
+class Arguments(unittest.TestCase):
+    def test_lists_and_tuples_at_every_level(self):
+        for name, ask, arguments in QUESTIONS:
+            with self.subTest(name):
+                first = answer_to(ask, as_tuples(arguments))
+                self.assertEqual(answer_to(ask, as_lists(arguments)), first)
+                self.assertEqual(answer_to(ask, arguments), first)
+                self.assertFalse(lists_in(first))
+
+    def test_nothing_passed_is_changed(self):
+        for name, ask, arguments in QUESTIONS:
+            with self.subTest(name):
+                given = as_lists(arguments)
+                before = copy.deepcopy(given)
+                objects = [(part, copy.deepcopy(plain(part))) for part in (FORM, OTHER, BELOW, ROWS, FEW)]
+                answer_to(ask, given)
+                for one, two in zip(given, before):
+                    self.assertEqual(plain(one), plain(two))
+                for part, fields in objects:
+                    self.assertEqual(plain(part), fields)
+
+    def test_what_is_returned_does_not_hang_on_what_was_passed(self):
+        for name, ask, arguments in QUESTIONS:
+            with self.subTest(name):
+                given = as_lists(arguments)
+                try:
+                    answer = ask(*given)
+                except CordError as error:
+                    answer = error
+                before = copy.deepcopy(plain(answer) if not isinstance(answer, CordError) else vars(answer))
+                self.spoil(given)
+                self.assertEqual(plain(answer) if not isinstance(answer, CordError) else vars(answer), before)
+
+    def spoil(self, given):
+        for at, part in enumerate(given):
+            if isinstance(part, list):
+                self.spoil(part)
+                part.append(77)
+            elif isinstance(part, int):
+                given[at] = 99
+
+    def test_equal_questions_have_equal_answers(self):
+        for name, ask, arguments in QUESTIONS:
+            with self.subTest(name):
+                first = answer_to(ask, arguments)
+                self.assertEqual(answer_to(ask, arguments), first)
+                if name in LOWEST:
+                    self.assertEqual(answer_to(ask, LOWEST[name]), first)
+        one = RowList(3, as_tuples(PAIRS), bottom=6)
+        two = RowList(3, [[row, 5 * weight] for row, weight in PAIRS], bottom=30)
+        for ask in (sparing.dependence, sparing.spared, bases.basis_of, bases.basis_factor):
+            self.assertEqual(plain(ask(one)), plain(ask(two)))
+        self.assertEqual(bases.missed_point(one, FEW), bases.missed_point(two, FEW))
+        wide = Form([[9 * x for x in row] for row in BELOW.entries], bottom=9)
+        self.assertEqual(judging.judge(wide).point, judging.judge(BELOW).point)
+
+
+class Sizes(unittest.TestCase):
+    def test_size_zero(self):
+        form, rows = Form([]), RowList(0, [])
+        self.assertEqual((form(()), form.between([], ()), form.at(((), 5))), ((0, 1), (0, 1), (0, 1)))
+        self.assertEqual(form.applied(([], 5)), ((), 1))
+        self.assertEqual((judging.judge(form).holds, judging.judge(form).squares), (True, ()))
+        self.assertTrue(form == form + form == form - form == form.scaled((3, 7)) == Form.square(()) == rows.form)
+        self.assertTrue(judging.is_squares(form, ((1, 1, ()),)))
+        self.assertEqual((sparing.dependence(rows), bases.basis_of(rows), bases.missed_point(rows, rows)),
+                         (None, (), None))
+        self.assertEqual((sparing.spared(rows) == rows, bases.basis_factor(rows)), (True, (1, 1)))
+        self.assertTrue(comparing.within(form, form, (9, 1), (1, 9)).holds)
+        self.assertTrue(comparing.is_within(form, form, (9, 1), (1, 9), (), ()))
+        self.assertEqual((factors.least_high(form, form, bottom=1), factors.greatest_low(form, form, bottom=1)), (0, None))
+        self.assertEqual((inverses.determinant(form), inverses.paired(form, form)), ((1, 1), (0, 1)))
+        self.assertTrue(inverses.inverse(form) == inverses.sandwich(form, form) == form)
+        self.assertTrue(inverses.changed_inverse(form, (), (-1, 1)) == form)
+        self.assertEqual(inverses.solve(form, ((), 1)), ((), 1))
+
+    def test_size_ten_and_sixty_pairs_passed_on_and_on(self):
+        pairs = [([(BIG - 7 * at) * (-1) ** (at // 3) if (at * at + k) % 11 < 6 else (at * k) % 13 for k in range(10)],
+                  HUGE // (at + 1)) for at in range(60)]
+        rows = RowList(10, pairs, bottom=HUGE - 2)
+        form = rows.form
+        self.assertEqual(judging.rank(form), 10)
+        told = judging.judge(form)
+        self.assertTrue(judging.is_squares(form, told.squares))
+        turned = inverses.inverse(form)
+        self.assertTrue(inverses.inverse(turned) == form)
+        self.assertEqual(inverses.paired(form, turned), (10, 1))
+        self.assertTrue(inverses.sandwich(form, turned) == form)
+        self.assertEqual(inverses.solve(turned, form.applied(((1,) * 10, 1))),
+                         form.applied(form.applied(((1,) * 10, 1))))
+        basis = bases.basis_of(rows)
+        squares = RowList(10, [(row, top) for top, _, row in told.squares])
+        self.assertEqual(len(basis), 10)
+        self.assertTrue(sparing.spared(squares) == squares)
+        self.assertIsNone(bases.missed_point(rows, squares))
+        held = comparing.within(turned, form, (0, 1), inverses.paired(inverses.inverse(turned), form))
+        self.assertTrue(held.holds)
+        self.assertTrue(comparing.is_within(turned, form, (0, 1), inverses.paired(form, form), held.under, held.over))
+        more = rows.scaled(inverses.determinant(form))
+        self.assertEqual(gcd(more.bottom, *[weight for _, weight in more]), 1)
+        self.assertEqual(more.form, form.scaled(inverses.determinant(form)))
+        self.assertEqual(factors.least_high(form, more.form, bottom=1),
+                         ratios.ceiling(inverses.determinant(form)))
+        self.assertEqual(factors.greatest_low(form, more.form, bottom=1),
+                         ratios.floored(inverses.determinant(form)))
+
+
+if __name__ == "__main__":
+    unittest.main()

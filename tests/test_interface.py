@@ -1,0 +1,71 @@
+"""Names, arguments and places of what the interface lists, as far as it has landed."""
+
+import importlib
+import inspect
+import unittest
+
+FUNCTIONS = {
+    "ratios": {"fraction": 2, "added": 2, "multiplied": 2, "compared": 2, "floored": 1, "ceiling": 1, "vector": 2},
+    "judging": {"is_squares": 2, "judge": 1, "leads": 1, "rank": 1, "free_points": 1},
+    "sparing": {"dependence": 1, "spared": 1},
+    "bases": {"coordinates": 3, "basis_of": 1, "basis_factor": 1, "missed_point": 2},
+    "comparing": {"within": 4, "is_within": 6},
+    "factors": {"least_high": (2, "bottom"), "greatest_low": (2, "bottom")},
+    "inverses": {"inverse": 1, "solve": 2, "paired": 2, "sandwich": 2, "changed_inverse": 3, "determinant": 1},
+}
+CLASSES = {
+    "forms": {"Form": ["__init__", "__add__", "__sub__", "__eq__", "__call__", "between", "at", "applied", "scaled",
+                       "zero", "square"]},
+    "rowlists": {"RowList": ["__init__", "__len__", "__iter__", "__add__", "__eq__", "scaled", "picked"]},
+    "judging": {"Judgement": []},
+    "comparing": {"Within": []},
+}
+
+
+def module(name):
+    return importlib.import_module("fourcords." + name)
+
+
+class Interface(unittest.TestCase):
+    def test_functions(self):
+        for name, functions in FUNCTIONS.items():
+            for told, asked in functions.items():
+                with self.subTest(told):
+                    function = getattr(module(name), told)
+                    self.assertEqual(function.__module__, "fourcords." + name)
+                    count, *named = asked if isinstance(asked, tuple) else (asked,)
+                    parameters = list(inspect.signature(function).parameters.values())
+                    by_place = [p for p in parameters if p.kind == p.POSITIONAL_OR_KEYWORD]
+                    by_name = [p.name for p in parameters if p.kind == p.KEYWORD_ONLY]
+                    self.assertEqual((len(by_place), by_name), (count, named))
+                    self.assertTrue(all(p.default is p.empty for p in parameters))
+
+    def test_classes(self):
+        for name, classes in CLASSES.items():
+            for told, methods in classes.items():
+                kind = getattr(module(name), told)
+                self.assertEqual(kind.__module__, "fourcords." + name)
+                for method in methods:
+                    self.assertIn(method, vars(kind))
+
+    def test_bottoms_are_passed_by_name(self):
+        form, rows = module("forms").Form, module("rowlists").RowList
+        for kind, arguments in ((form, ([[1]],)), (rows, (1, []))):
+            bottom = inspect.signature(kind).parameters["bottom"]
+            self.assertEqual((bottom.kind, bottom.default), (bottom.KEYWORD_ONLY, 1))
+            with self.assertRaises(TypeError):
+                kind(*arguments, 2)
+            self.assertEqual(kind(*arguments).bottom, 1)
+
+    def test_fields_of_answers(self):
+        form = module("forms").Form([[1]])
+        told = module("judging").judge(form)
+        self.assertIsInstance(told, module("judging").Judgement)
+        self.assertEqual(sorted(vars(told)), ["holds", "point", "squares"])
+        told = module("comparing").within(form, form, (0, 1), (1, 1))
+        self.assertIsInstance(told, module("comparing").Within)
+        self.assertEqual(sorted(vars(told)), ["holds", "over", "point", "side", "under"])
+
+
+if __name__ == "__main__":
+    unittest.main()
