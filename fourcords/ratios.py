@@ -39,6 +39,16 @@ def multiplied(one, two):
     return fraction(one[0] * two[0], one[1] * two[1])
 
 
+def subtracted(one, two):
+    """Return the difference of two fractions."""
+    return fraction(one[0] * two[1] - two[0] * one[1], one[1] * two[1])
+
+
+def divided(one, two):
+    """Return the quotient of two fractions, the second one not 0."""
+    return fraction(one[0] * two[1], one[1] * two[0])
+
+
 def compared(one, two):
     """Return -1, 0 or 1 if the first fraction is less than, equal to or greater than the second."""
     difference = one[0] * two[1] - two[0] * one[1]

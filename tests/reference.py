@@ -95,6 +95,32 @@ def rank_of(rows, width):
     return len(echelon(rows, width)[1])
 
 
+def inverse_of(m):
+    """The inverse in the pivot columns, with 0 elsewhere, of a nonnegative matrix."""
+    at = echelon(m, len(m))[1]
+    block = [[m[i][j] for j in at] + [int(i == j) for j in at] for i in at]
+    solved = echelon(block, len(at))[0]
+    told = [[Fraction(0)] * len(m) for _ in m]
+    for row, i in zip(solved, at):
+        for x, j in zip(row[len(at):], at):
+            told[i][j] = x
+    return told
+
+
+def trace_of(one, two):
+    """The sum of the products of the numbers of two matrices at the same places."""
+    return sum((dot(x, y) for x, y in zip(one, two)), Fraction(0))
+
+
+def at_row(m, row):
+    return sum((m[i][j] * row[i] * row[j] for i in range(len(m)) for j in range(len(m))), Fraction(0))
+
+
+def mixed(one, factor, two):
+    """The matrix of one plus factor times two."""
+    return [[x + factor * y for x, y in zip(left, right)] for left, right in zip(one, two)]
+
+
 def determinant_of(m):
     """By the sum over all permutations, row by row."""
     if not m:

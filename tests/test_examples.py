@@ -53,6 +53,11 @@ EXAMPLES = '''
 >>> [least_high(Form([[1]]), Form([[3]]), bottom=2), greatest_low(Form([[2]]), Form([[3]]), bottom=3)]
 [6, 4]
 
+>>> from fourcords.seen import seen_from, filled
+>>> path = Form([[1, -1, 0], [-1, 2, -1], [0, -1, 1]])
+>>> [seen_from(path, (0, 2)).entries, seen_from(path, (0, 2)).bottom, filled(path, (0, 2), (1, 0))]
+[((1, -1), (-1, 1)), 2, ((2, 1, 0), 2)]
+
 >>> from fourcords.inverses import inverse, solve, paired, determinant, changed_inverse
 >>> one = Form([[2, 1], [1, 2]])
 >>> [inverse(one).entries, inverse(one).bottom, inverse(Form([[1, 1], [1, 1]])).entries]
@@ -61,6 +66,30 @@ EXAMPLES = '''
 [((2, -1), 3), (6, 1), (3, 1)]
 >>> [changed_inverse(Form([[1]]), (1,), (1, 1)).entries, changed_inverse(Form([[1]]), (1,), (1, 1)).bottom]
 [((1,),), 2]
+
+>>> from fourcords.shares import shares
+>>> shares(RowList(1, [((1,), 1), ((1,), 3)]))
+((1, 4), (3, 4))
+
+>>> from fourcords.stands import Stand
+>>> stand = Stand(RowList(1, [((1,), 1)]), (10,), (0, 1), (3, 1))
+>>> [stand.low_measure, stand.high_measure, stand.numbers((1, 2), (1, 1))]
+[(1, 1), (1, 2), (((1, 1), (2, 1)),)]
+>>> [stand.room((1, 2), (1, 1), 0), stand.lets((1, 2), (1, 1), 0, 4)]
+[(5, 10), False]
+
+>>> from fourcords.grades import grade_factor, grade_steps, grade_fences, grade_unit, grade_moves, grade_gap
+>>> [grade_factor(2), grade_steps(2, 3), grade_fences(2, 1), grade_unit(2), grade_moves(2), grade_gap(2)]
+[(29, 3), 12, ((-2, 1), (6, 1)), 10, ((1, 1), (10, 3)), (1, 30)]
+
+>>> from fourcords.runs import Run, picks, resumed
+>>> run = Run(RowList(1, [((1,), 1)]))
+>>> [run.left, run.room(0), run.pick(), list(picks(run))]
+[4, (10, 33), (0, 10), [(0, 10), (0, 10), (0, 10), (0, 10)]]
+
+>>> from fourcords.thinning import thinned, thinned_run
+>>> [thinned(RowList(1, [((1,), 1)])).pairs, thinned_run(RowList(1, [((1,), 1)])).left]
+[(((1,), 2),), 0]
 '''
 
 
@@ -73,10 +102,10 @@ class Examples(unittest.TestCase):
         self.assertEqual(results.attempted, count)
 
     def test_examples_of_the_interface(self):
-        self.check(EXAMPLES, 30)
+        self.check(EXAMPLES, 46)
 
     def test_examples_of_the_readme(self):
-        self.check(README.read_text(encoding="ascii").replace("```", ""), 10)
+        self.check(README.read_text(encoding="ascii").replace("```", ""), 18)
 
 
 if __name__ == "__main__":

@@ -4,10 +4,12 @@ import copy
 import unittest
 from math import gcd
 
-from fourcords import bases, comparing, factors, inverses, judging, ratios, sparing
+from fourcords import bases, comparing, factors, inverses, judging, ratios, seen, shares, sparing, thinning
 from fourcords.errors import CordError
 from fourcords.forms import Form
 from fourcords.rowlists import RowList
+from fourcords.runs import Run, picks, resumed
+from fourcords.stands import Stand
 from reference import BIG, HUGE, as_lists, as_tuples, has_list
 
 FORM = Form([[2, 1, 0], [1, 2, 0], [0, 0, 0]], bottom=3)
@@ -16,6 +18,10 @@ BELOW = Form([[1, 2, 0], [2, 1, 0], [0, 0, 0]])
 PAIRS = [([1, 0, 2], 2), ([0, 1, 1], 4), ([1, 1, 3], 6), ([1, 0, 2], 2), ([0, 0, 0], 8)]
 ROWS = RowList(3, PAIRS, bottom=6)
 FEW = RowList(3, PAIRS[:1])
+STAND = Stand(ROWS, [30, 5, 40, 10, 0], [-2, 6], [40, 2], unit=4)
+RUN = Run(ROWS)
+LOG = [[2, 200], [3, 267]]
+ORDER = [4, 2, 3, 1, 0]
 SQUARES = [(2, 4, [2, 1, 0]), (3, 2, [0, 1, 0])]
 
 # What is asked, and its arguments with lists and with fractions and vectors that are not in lowest terms.
@@ -69,6 +75,32 @@ QUESTIONS = [
     ("NoInverse", inverses.changed_inverse, [Form([[1]]), [1], [-2, 2]]),
     ("SizesDiffer", inverses.changed_inverse, [FORM, [1], [-2, 2]]),
     ("determinant", inverses.determinant, [FORM]),
+    ("seen_from", seen.seen_from, [FORM, [1, 0]]),
+    ("seen_from below", seen.seen_from, [BELOW, [1]]),
+    ("filled", seen.filled, [FORM, [1, 2], [5, 7]]),
+    ("filled below", seen.filled, [BELOW, [1], [5]]),
+    ("shares", shares.shares, [ROWS]),
+    ("Stand", lambda *told: Stand(*told, unit=4), [ROWS, [30, 5, 40, 10, 0], [-2, 6], [40, 2]]),
+    ("OutsideFence low", Stand, [ROWS, [30, 5, 40, 10, 0], [60, 2], [4, 2]]),
+    ("OutsideFence high", Stand, [ROWS, [30, 5, 40, 10, 0], [-2, 6], [2, 4]]),
+    ("numbers", STAND.numbers, [[2, 8], [6, 3]]),
+    ("moved", STAND.moved, [[2, 8], [6, 3], 1, 5]),
+    ("moved outside", STAND.moved, [[2, 8], [6, 3], 1, 50000]),
+    ("lets", STAND.lets, [[2, 8], [6, 3], 1, 20]),
+    ("stand.room", STAND.room, [[2, 8], [6, 3], 1]),
+    ("low fence", STAND.room, [[80, 8], [6, 3], 1]),
+    ("Run", Run, [ROWS]),
+    ("taken", RUN.taken, [2, 200]),
+    ("BadPick", RUN.taken, [0, 1]),
+    ("run.room", RUN.room, [2]),
+    ("pick", lambda order: RUN.pick(order=order), [ORDER]),
+    ("picks", lambda order: tuple(picks(RUN, order=order)), [ORDER]),
+    ("resumed", resumed, [ROWS, LOG]),
+    ("BadStep", resumed, [ROWS, LOG + [[0, 0]]]),
+    ("StepsLeft", RUN.kept, []),
+    ("kept", lambda order: thinning.thinned_run(ROWS, order=order).kept(), [ORDER]),
+    ("thinned", lambda order: thinning.thinned(ROWS, order=order), [ORDER]),
+    ("thinned_run", lambda order: thinning.thinned_run(ROWS, order=order), [ORDER]),
 ]
 
 LOWEST = {
@@ -79,13 +111,18 @@ LOWEST = {
     "changed_inverse": [FORM, (1, 2, 0), (-1, 3)], "is_within": [FORM, FORM, (0, 1), (1, 1), [(1, 2, (2, 1, 0)),
                                                                                          (3, 2, (0, 1, 0))], ()],
     "is_squares": [FORM, [(1, 2, (2, 1, 0)), (3, 2, (0, 1, 0))]], "vector": [(-1, -2, 3), 2],
-    "NoInverse": [Form([[1]]), (1,), (-1, 1)],
+    "NoInverse": [Form([[1]]), (1,), (-1, 1)], "Stand": [ROWS, (30, 5, 40, 10, 0), (-1, 3), (20, 1)],
+    "OutsideFence low": [ROWS, (30, 5, 40, 10, 0), (30, 1), (2, 1)], "numbers": [(1, 4), (2, 1)],
+    "OutsideFence high": [ROWS, (30, 5, 40, 10, 0), (-1, 3), (1, 2)], "moved": [(1, 4), (2, 1), 1, 5],
+    "moved outside": [(1, 4), (2, 1), 1, 50000], "lets": [(1, 4), (2, 1), 1, 20], "stand.room": [(1, 4), (2, 1), 1],
+    "low fence": [(10, 1), (2, 1), 1],
 }
+OBJECTS = (Form, RowList, Stand, Run)
 
 
 def plain(answer):
     """The answer with the fields of objects instead of the objects."""
-    if isinstance(answer, (Form, RowList)) or hasattr(answer, "holds"):
+    if isinstance(answer, OBJECTS) or hasattr(answer, "holds"):
         return {name: plain(field) for name, field in vars(answer).items()}
     return answer
 
@@ -119,7 +156,7 @@ class Arguments(unittest.TestCase):
             with self.subTest(name):
                 given = as_lists(arguments)
                 before = copy.deepcopy(given)
-                objects = [(part, copy.deepcopy(plain(part))) for part in (FORM, OTHER, BELOW, ROWS, FEW)]
+                objects = [(part, copy.deepcopy(plain(part))) for part in (FORM, OTHER, BELOW, ROWS, FEW, STAND, RUN)]
                 answer_to(ask, given)
                 for one, two in zip(given, before):
                     self.assertEqual(plain(one), plain(two))

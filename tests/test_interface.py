@@ -12,13 +12,33 @@ FUNCTIONS = {
     "comparing": {"within": 4, "is_within": 6},
     "factors": {"least_high": (2, "bottom"), "greatest_low": (2, "bottom")},
     "inverses": {"inverse": 1, "solve": 2, "paired": 2, "sandwich": 2, "changed_inverse": 3, "determinant": 1},
+    "seen": {"seen_from": 2, "filled": 3},
+    "shares": {"shares": 1},
+    "grades": {"grade_steps": 2, "grade_fences": 2, "grade_unit": 1, "grade_moves": 1, "grade_gap": 1,
+               "grade_factor": 1},
+    "runs": {"picks": (1, "order"), "resumed": (2, "grade")},
+    "thinning": {"thinned": (1, "grade", "order"), "thinned_run": (1, "grade", "order")},
 }
+METHODS = {
+    "forms.Form": {"__init__": (1, "bottom"), "__call__": 1, "between": 2, "at": 1, "applied": 1, "scaled": 1},
+    "rowlists.RowList": {"__init__": (2, "bottom"), "scaled": 1, "picked": 1},
+    "stands.Stand": {"__init__": (4, "unit"), "numbers": 2, "moved": 4, "lets": 4, "room": 3},
+    "runs.Run": {"__init__": (1, "grade"), "taken": 2, "room": 1, "pick": (0, "order"), "kept": 0},
+}
+# What is passed by name and may be left out.
+DEFAULTS = {"grade": 2, "order": None, "unit": 10}
 CLASSES = {
     "forms": {"Form": ["__init__", "__add__", "__sub__", "__eq__", "__call__", "between", "at", "applied", "scaled",
                        "zero", "square"]},
     "rowlists": {"RowList": ["__init__", "__len__", "__iter__", "__add__", "__eq__", "scaled", "picked"]},
     "judging": {"Judgement": []},
     "comparing": {"Within": []},
+    "stands": {"Stand": ["__init__", "numbers", "moved", "lets", "room"]},
+    "runs": {"Run": ["__init__", "taken", "room", "pick", "kept"]},
+}
+FIELDS = {
+    "stands.Stand": "rows counts low high unit form low_measure high_measure",
+    "runs.Run": "rows grade log stand left",
 }
 
 
@@ -27,18 +47,36 @@ def module(name):
 
 
 class Interface(unittest.TestCase):
+    def check(self, function, asked):
+        count, *named = asked if isinstance(asked, tuple) else (asked,)
+        parameters = list(inspect.signature(function).parameters.values())
+        by_place = [p for p in parameters if p.kind == p.POSITIONAL_OR_KEYWORD]
+        by_name = [p for p in parameters if p.kind == p.KEYWORD_ONLY]
+        self.assertEqual((len(by_place), [p.name for p in by_name]), (count, named))
+        self.assertTrue(all(p.default is p.empty for p in by_place))
+        for p in by_name:
+            if p.name in DEFAULTS:
+                self.assertEqual(p.default, DEFAULTS[p.name])
+
     def test_functions(self):
         for name, functions in FUNCTIONS.items():
             for told, asked in functions.items():
                 with self.subTest(told):
                     function = getattr(module(name), told)
                     self.assertEqual(function.__module__, "fourcords." + name)
-                    count, *named = asked if isinstance(asked, tuple) else (asked,)
-                    parameters = list(inspect.signature(function).parameters.values())
-                    by_place = [p for p in parameters if p.kind == p.POSITIONAL_OR_KEYWORD]
-                    by_name = [p.name for p in parameters if p.kind == p.KEYWORD_ONLY]
-                    self.assertEqual((len(by_place), by_name), (count, named))
-                    self.assertTrue(all(p.default is p.empty for p in parameters))
+                    self.check(function, asked)
+
+    def test_methods(self):
+        for where, methods in METHODS.items():
+            name, kind = where.split(".")
+            for told, (count, *named) in [(k, v if isinstance(v, tuple) else (v,)) for k, v in methods.items()]:
+                with self.subTest(where + "." + told):
+                    self.check(vars(getattr(module(name), kind))[told], (count + 1, *named))
+
+    def test_bottoms_of_factors_must_be_passed(self):
+        for told in ("least_high", "greatest_low"):
+            bottom = inspect.signature(getattr(module("factors"), told)).parameters["bottom"]
+            self.assertIs(bottom.default, bottom.empty)
 
     def test_classes(self):
         for name, classes in CLASSES.items():
@@ -56,6 +94,12 @@ class Interface(unittest.TestCase):
             with self.assertRaises(TypeError):
                 kind(*arguments, 2)
             self.assertEqual(kind(*arguments).bottom, 1)
+
+    def test_fields_of_objects(self):
+        rows = module("rowlists").RowList(1, [((1,), 2)])
+        made = {"stands.Stand": module("stands").Stand(rows, (1,), (0, 1), (9, 1)), "runs.Run": module("runs").Run(rows)}
+        for name, fields in FIELDS.items():
+            self.assertEqual(sorted(vars(made[name])), sorted(fields.split()))
 
     def test_fields_of_answers(self):
         form = module("forms").Form([[1]])

@@ -4,7 +4,7 @@ from math import ceil, floor
 from random import Random
 
 from fourcords.errors import ZeroBottom
-from fourcords.ratios import added, ceiling, compared, floored, fraction, multiplied, vector
+from fourcords.ratios import added, ceiling, compared, divided, floored, fraction, multiplied, subtracted, vector
 from reference import HUGE, as_lists, number, numbers
 
 PAIRS = [(0, 1), (0, 7), (1, 1), (-1, 1), (6, 4), (-6, 4), (5, 3), (-5, 3), (12, 3), (-12, 3), (2, 6), (-2, 6),
@@ -35,7 +35,10 @@ class Ratios(unittest.TestCase):
             for two in PAIRS:
                 x, y = Fraction(*one), Fraction(*two)
                 self.assertEqual(number(added(one, two)), x + y)
+                self.assertEqual(number(subtracted(one, two)), x - y)
                 self.assertEqual(number(multiplied(one, two)), x * y)
+                if y != 0:
+                    self.assertEqual(number(divided(one, two)), x / y)
                 self.assertEqual(compared(one, two), (x > y) - (x < y))
                 self.assertIs(type(compared(one, two)), int)
                 for told in (added, multiplied, compared):
