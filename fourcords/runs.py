@@ -20,8 +20,8 @@ def has_pair(stand, index):
 
 
 def is_let(stand, grade, index, count):
-    """Return True if the next step may take this pick."""
-    return has_pair(stand, index) and count >= 1 and moved_fences(stand, grade).lets_at(index, count)
+    """Return True if the next step may take this pick; no count below 1 is let anywhere."""
+    return has_pair(stand, index) and moved_fences(stand, grade).lets_at(index, count)
 
 
 def first_pick(stand, grade, order):

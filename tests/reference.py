@@ -6,6 +6,7 @@ from random import Random
 
 from fourcords.forms import Form
 from fourcords.rowlists import RowList
+from fourcords.webs import Web
 
 BIG = 10 ** 12
 HUGE = 10 ** 120 - 1
@@ -207,3 +208,49 @@ def sample_points(seed, size, count=12, limit=5):
     random = Random(seed)
     units = [tuple(1 if i == k else 0 for i in range(size)) for k in range(size)]
     return [(0,) * size] + units + [random_row(random, size, limit) for _ in range(count)]
+
+
+def random_web(random, places, ties, strength=9, bottom=6):
+    """A web with parts, single places and several ties between the same places now and then."""
+    found = []
+    used = random.sample(range(places), random.randint(min(2, places), places))
+    for _ in range(ties if len(used) > 1 else 0):
+        if found and random.randint(0, 4) == 0:
+            one, two, _ = random.choice(found)
+        else:
+            one, two = random.sample(used, 2)
+        found.append((two, one, random.randint(1, strength)))
+    return Web(places, found, bottom=random.randint(1, bottom))
+
+
+def sample_webs(seed, count=40, top_places=6):
+    random = Random(seed)
+    webs = [random_web(random, k % (top_places + 1), random.randint(0, 2 * (k % (top_places + 1)))) for k in range(count)]
+    return [Web(0, []), Web(1, []), Web(5, []), Web.ring(5, strength=3), Web.complete(4), Web.grid(3, 2)] + webs
+
+
+def strength_of(web, tie):
+    return Fraction(tie[2], web.bottom)
+
+
+def cut_of(web, side):
+    """The cut from the ties."""
+    return sum((strength_of(web, tie) for tie in web.ties if (tie[0] in side) != (tie[1] in side)), Fraction(0))
+
+
+def parts_of(web):
+    """The parts, by going from place to place."""
+    found = []
+    for start in range(web.places):
+        if any(start in part for part in found):
+            continue
+        reached, left = {start}, [start]
+        while left:
+            here = left.pop()
+            for one, two, _ in web.ties:
+                for near, far in ((one, two), (two, one)):
+                    if near == here and far not in reached:
+                        reached.add(far)
+                        left.append(far)
+        found.append(tuple(sorted(reached)))
+    return tuple(found)

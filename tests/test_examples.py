@@ -90,6 +90,29 @@ EXAMPLES = '''
 >>> from fourcords.thinning import thinned, thinned_run
 >>> [thinned(RowList(1, [((1,), 1)])).pairs, thinned_run(RowList(1, [((1,), 1)])).left]
 [(((1,), 2),), 0]
+
+>>> from fourcords.webs import Web
+>>> [Web.complete(3).ties, Web.ring(4).ties, Web.grid(2, 2).ties]
+[((0, 1, 1), (0, 2, 1), (1, 2, 1)), ((0, 1, 1), (1, 2, 1), (2, 3, 1), (0, 3, 1)), ((0, 1, 1), (0, 2, 1), (1, 3, 1), (2, 3, 1))]
+
+>>> from fourcords.parts import parts
+>>> parts(Web(4, [(3, 1, 2)]))
+((0,), (1, 3), (2,))
+
+>>> from fourcords.cuts import cut, sides, least_cut, cut_range
+>>> [cut(Web.complete(3), (0,)), list(sides(3)), least_cut(Web.ring(4), 0, 2)]
+[(2, 1), [(0,), (0, 1), (0, 2)], ((2, 1), (0,))]
+>>> cut_range(Web.complete(3), Web(3, [(0, 1, 2), (1, 2, 2)]))
+(((1, 1), (0,)), ((2, 1), (0, 2)))
+
+>>> from fourcords.thinwebs import thinned_web
+>>> thinned_web(Web.complete(2)).ties
+((0, 1, 2),)
+
+>>> from fourcords.currents import heights, tie_currents, outflow
+>>> web = Web(2, [(0, 1, 2)])
+>>> [heights(web, ((1, -1), 1)), tie_currents(web, ((1, 0), 2)), outflow(web, ((1,), 1))]
+[((1, 0), 2), ((1,), 1), ((1, -1), 1)]
 '''
 
 
@@ -102,10 +125,10 @@ class Examples(unittest.TestCase):
         self.assertEqual(results.attempted, count)
 
     def test_examples_of_the_interface(self):
-        self.check(EXAMPLES, 46)
+        self.check(EXAMPLES, 58)
 
     def test_examples_of_the_readme(self):
-        self.check(README.read_text(encoding="ascii").replace("```", ""), 18)
+        self.check(README.read_text(encoding="ascii").replace("```", ""), 27)
 
 
 if __name__ == "__main__":

@@ -4,12 +4,14 @@ import copy
 import unittest
 from math import gcd
 
-from fourcords import bases, comparing, factors, inverses, judging, ratios, seen, shares, sparing, thinning
+from fourcords import (bases, comparing, currents, cuts, factors, inverses, judging, parts, ratios, seen, shares,
+                       sparing, thinning, thinwebs)
 from fourcords.errors import CordError
 from fourcords.forms import Form
 from fourcords.rowlists import RowList
 from fourcords.runs import Run, picks, resumed
 from fourcords.stands import Stand
+from fourcords.webs import Web
 from reference import BIG, HUGE, as_lists, as_tuples, has_list
 
 FORM = Form([[2, 1, 0], [1, 2, 0], [0, 0, 0]], bottom=3)
@@ -22,6 +24,9 @@ STAND = Stand(ROWS, [30, 5, 40, 10, 0], [-2, 6], [40, 2], unit=4)
 RUN = Run(ROWS)
 LOG = [[2, 200], [3, 267]]
 ORDER = [4, 2, 3, 1, 0]
+TIES = [[2, 0, 4], [0, 1, 6], [1, 2, 2], [0, 2, 8]]
+WEB = Web(4, TIES, bottom=6)
+OTHER_WEB = Web(4, [[0, 1, 3]])
 SQUARES = [(2, 4, [2, 1, 0]), (3, 2, [0, 1, 0])]
 
 # What is asked, and its arguments with lists and with fractions and vectors that are not in lowest terms.
@@ -101,6 +106,28 @@ QUESTIONS = [
     ("kept", lambda order: thinning.thinned_run(ROWS, order=order).kept(), [ORDER]),
     ("thinned", lambda order: thinning.thinned(ROWS, order=order), [ORDER]),
     ("thinned_run", lambda order: thinning.thinned_run(ROWS, order=order), [ORDER]),
+    ("Web", Web, [4, TIES]),
+    ("BadTie", Web, [2, TIES]),
+    ("BadWeight tie", Web, [3, [[0, 1, 0]]]),
+    ("web.picked", WEB.picked, [[2, 0, 2]]),
+    ("complete", lambda: Web.complete(4, strength=3), []),
+    ("ring", lambda: Web.ring(4, strength=3), []),
+    ("grid", lambda: Web.grid(4, 2, strength=3), []),
+    ("of_rows", Web.of_rows, [WEB.rows]),
+    ("BadRow of_rows", Web.of_rows, [ROWS]),
+    ("parts", parts.parts, [WEB]),
+    ("cut", cuts.cut, [WEB, [2, 1]]),
+    ("sides", lambda places: tuple(cuts.sides(places)), [5]),
+    ("narrow_sides", cuts.narrow_sides, [WEB, [14, 6]]),
+    ("least_cut", cuts.least_cut, [WEB, 2, 0]),
+    ("SamePlace", cuts.least_cut, [WEB, 2, 2]),
+    ("cut_range", cuts.cut_range, [WEB, OTHER_WEB]),
+    ("SizesDiffer cut_range", cuts.cut_range, [WEB, Web(3, [])]),
+    ("thinned_web", lambda order: thinwebs.thinned_web(WEB, order=order), [[3, 2, 0, 1]]),
+    ("heights", currents.heights, [WEB, [[4, -6, 2, 0], 4]]),
+    ("NoSolution heights", currents.heights, [WEB, [[4, -6, 0, 2], 4]]),
+    ("tie_currents", currents.tie_currents, [WEB, [[4, -6, 2, 0], 4]]),
+    ("outflow", currents.outflow, [WEB, [[4, -6, 2, 0], 4]]),
 ]
 
 LOWEST = {
@@ -115,9 +142,11 @@ LOWEST = {
     "OutsideFence low": [ROWS, (30, 5, 40, 10, 0), (30, 1), (2, 1)], "numbers": [(1, 4), (2, 1)],
     "OutsideFence high": [ROWS, (30, 5, 40, 10, 0), (-1, 3), (1, 2)], "moved": [(1, 4), (2, 1), 1, 5],
     "moved outside": [(1, 4), (2, 1), 1, 50000], "lets": [(1, 4), (2, 1), 1, 20], "stand.room": [(1, 4), (2, 1), 1],
-    "low fence": [(10, 1), (2, 1), 1],
+    "low fence": [(10, 1), (2, 1), 1], "narrow_sides": [WEB, (7, 3)], "heights": [WEB, ((2, -3, 1, 0), 2)],
+    "NoSolution heights": [WEB, ((2, -3, 0, 1), 2)], "tie_currents": [WEB, ((2, -3, 1, 0), 2)],
+    "outflow": [WEB, ((2, -3, 1, 0), 2)],
 }
-OBJECTS = (Form, RowList, Stand, Run)
+OBJECTS = (Form, RowList, Stand, Run, Web)
 
 
 def plain(answer):
@@ -156,7 +185,7 @@ class Arguments(unittest.TestCase):
             with self.subTest(name):
                 given = as_lists(arguments)
                 before = copy.deepcopy(given)
-                objects = [(part, copy.deepcopy(plain(part))) for part in (FORM, OTHER, BELOW, ROWS, FEW, STAND, RUN)]
+                objects = [(part, copy.deepcopy(plain(part))) for part in (FORM, OTHER, BELOW, ROWS, FEW, STAND, RUN, WEB)]
                 answer_to(ask, given)
                 for one, two in zip(given, before):
                     self.assertEqual(plain(one), plain(two))

@@ -18,15 +18,20 @@ FUNCTIONS = {
                "grade_factor": 1},
     "runs": {"picks": (1, "order"), "resumed": (2, "grade")},
     "thinning": {"thinned": (1, "grade", "order"), "thinned_run": (1, "grade", "order")},
+    "parts": {"parts": 1},
+    "cuts": {"cut": 2, "sides": 1, "narrow_sides": 2, "least_cut": 3, "cut_range": 2},
+    "thinwebs": {"thinned_web": (1, "grade", "order")},
+    "currents": {"heights": 2, "tie_currents": 2, "outflow": 2},
 }
 METHODS = {
     "forms.Form": {"__init__": (1, "bottom"), "__call__": 1, "between": 2, "at": 1, "applied": 1, "scaled": 1},
     "rowlists.RowList": {"__init__": (2, "bottom"), "scaled": 1, "picked": 1},
     "stands.Stand": {"__init__": (4, "unit"), "numbers": 2, "moved": 4, "lets": 4, "room": 3},
     "runs.Run": {"__init__": (1, "grade"), "taken": 2, "room": 1, "pick": (0, "order"), "kept": 0},
+    "webs.Web": {"__init__": (2, "bottom"), "picked": 1},
 }
 # What is passed by name and may be left out.
-DEFAULTS = {"grade": 2, "order": None, "unit": 10}
+DEFAULTS = {"grade": 2, "order": None, "unit": 10, "strength": 1}
 CLASSES = {
     "forms": {"Form": ["__init__", "__add__", "__sub__", "__eq__", "__call__", "between", "at", "applied", "scaled",
                        "zero", "square"]},
@@ -35,10 +40,12 @@ CLASSES = {
     "comparing": {"Within": []},
     "stands": {"Stand": ["__init__", "numbers", "moved", "lets", "room"]},
     "runs": {"Run": ["__init__", "taken", "room", "pick", "kept"]},
+    "webs": {"Web": ["__init__", "__len__", "__iter__", "__eq__", "picked", "complete", "ring", "grid", "of_rows"]},
 }
 FIELDS = {
     "stands.Stand": "rows counts low high unit form low_measure high_measure",
     "runs.Run": "rows grade log stand left",
+    "webs.Web": "places ties bottom rows form",
 }
 
 
@@ -73,6 +80,12 @@ class Interface(unittest.TestCase):
                 with self.subTest(where + "." + told):
                     self.check(vars(getattr(module(name), kind))[told], (count + 1, *named))
 
+    def test_class_methods_of_webs(self):
+        web = module("webs").Web
+        for made, asked in ((web.complete, (1, "strength")), (web.ring, (1, "strength")),
+                            (web.grid, (2, "strength")), (web.of_rows, 1)):
+            self.check(made, asked)
+
     def test_bottoms_of_factors_must_be_passed(self):
         for told in ("least_high", "greatest_low"):
             bottom = inspect.signature(getattr(module("factors"), told)).parameters["bottom"]
@@ -87,8 +100,8 @@ class Interface(unittest.TestCase):
                     self.assertIn(method, vars(kind))
 
     def test_bottoms_are_passed_by_name(self):
-        form, rows = module("forms").Form, module("rowlists").RowList
-        for kind, arguments in ((form, ([[1]],)), (rows, (1, []))):
+        form, rows, web = module("forms").Form, module("rowlists").RowList, module("webs").Web
+        for kind, arguments in ((form, ([[1]],)), (rows, (1, [])), (web, (1, []))):
             bottom = inspect.signature(kind).parameters["bottom"]
             self.assertEqual((bottom.kind, bottom.default), (bottom.KEYWORD_ONLY, 1))
             with self.assertRaises(TypeError):
@@ -97,7 +110,8 @@ class Interface(unittest.TestCase):
 
     def test_fields_of_objects(self):
         rows = module("rowlists").RowList(1, [((1,), 2)])
-        made = {"stands.Stand": module("stands").Stand(rows, (1,), (0, 1), (9, 1)), "runs.Run": module("runs").Run(rows)}
+        made = {"stands.Stand": module("stands").Stand(rows, (1,), (0, 1), (9, 1)), "runs.Run": module("runs").Run(rows),
+                "webs.Web": module("webs").Web(2, [])}
         for name, fields in FIELDS.items():
             self.assertEqual(sorted(vars(made[name])), sorted(fields.split()))
 

@@ -149,6 +149,12 @@ class Fences(unittest.TestCase):
         self.check_outside("low", LOOSE, (0, 0, 0), (0, 1), (1, 1))
         self.check_outside("high", LOOSE, (0, 0, 0), (-1, 1), (0, 1))
         self.check_outside("low", TWO, (40, 0), (0, 1), (3, 1))
+        # Some points at which such a fence is touched are free for the list.
+        behind = RowList(3, [((0, 0, 1), 1), ((0, 1, 0), 1)])
+        self.check_outside("low", behind, (20, 20), (1, 1), (3, 1))
+        self.check_outside("low", behind, (20, 30), (1, 1), (3, 1))
+        self.check_outside("high", behind, (30, 60), (1, 1), (3, 1))
+        self.check_outside("high", behind, (60, 60), (1, 1), (3, 1))
 
     def test_low_ahead_of_high(self):
         self.check_outside("low", ONE, (10,), (1, 1), (1, 1))
