@@ -424,8 +424,7 @@ class LetsAndRoom(unittest.TestCase):
     def test_told_answers(self):
         stand = Stand(ONE, (10,), (0, 1), (3, 1))
         self.assertEqual(stand.room((1, 2), (1, 1), 0), (5, 10))
-        self.assertEqual([stand.lets((1, 2), (1, 1), 0, count) for count in (0, 4, 5, 7, 10, 11)],
-                         [False, False, True, True, True, False])
+        self.assertEqual([count for count in range(40) if stand.lets((1, 2), (1, 1), 0, count)], list(range(5, 11)))
         # The upper number is 1 / high_step and the lower one 1 / low_step.
         self.assertEqual(stand.room((1, 2), (1, 2), 0), (5, 5))
         self.assertIsNone(stand.room((1, 2), (1, 3), 0))
