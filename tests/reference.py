@@ -1,11 +1,13 @@
 """Plain, slow answers with Python's own fractions, and samples, for the tests."""
 
 from fractions import Fraction
-from math import gcd
+from itertools import combinations
+from math import gcd, lcm
 from random import Random
 
 from fourcords.forms import Form
 from fourcords.rowlists import RowList
+from fourcords.surveys import Survey
 from fourcords.webs import Web
 
 BIG = 10 ** 12
@@ -254,3 +256,44 @@ def parts_of(web):
                         left.append(far)
         found.append(tuple(sorted(reached)))
     return tuple(found)
+
+
+def balanced(random, web):
+    """A demand with the sum 0 in every part."""
+    demand = [random.randint(-9, 9) for _ in range(web.places)]
+    for part in parts_of(web):
+        demand[random.choice(part)] -= sum(demand[place] for place in part)
+    return demand
+
+
+def as_vector(told):
+    """The vector of some fractions, not in lowest terms in general."""
+    bottom = 6 * lcm(*[x.denominator for x in told])
+    return [int(x * bottom) for x in told], bottom
+
+
+def as_fraction(x, times=1):
+    """The fraction of a number, with top and bottom multiplied."""
+    return x.numerator * times, x.denominator * times
+
+
+def forests_of(web):
+    """All forests of a web, as tuples of the indexes of their ties, told one by one."""
+    parts = len(parts_of(web))
+    found = []
+    for chosen in combinations(range(len(web)), web.places - parts):
+        if len(parts_of(web.picked(chosen))) == parts:
+            found.append(chosen)
+    return found
+
+
+def random_survey(random, size, count, limit=4, values=9):
+    """A survey in which zero rows, equal rows and multiples of rows stand now and then."""
+    rows = random_rows(random, size, count, limit=limit)
+    return Survey(size, [(row, random.randint(-values, values), weight) for row, weight in rows], bottom=rows.bottom)
+
+
+def sample_surveys(seed, count=24, top_size=3):
+    random = Random(seed)
+    surveys = [random_survey(random, k % (top_size + 1), random.randint(0, 8)) for k in range(count)]
+    return [Survey(0, []), Survey(2, []), Survey(2, [((0, 0), 3, 1), ((0, 0), -1, 2)])] + surveys

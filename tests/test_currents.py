@@ -6,18 +6,10 @@ from fourcords.currents import heights, outflow, tie_currents
 from fourcords.errors import NoSolution
 from fourcords.inverses import solve
 from fourcords.webs import Web
-from reference import HUGE, dot, matrix, numbers, parts_of, random_row, random_web, sample_webs, strength_of
+from reference import HUGE, balanced, dot, matrix, numbers, parts_of, random_row, random_web, sample_webs, strength_of
 
 # Two parts and a single place between them.
 LOOSE = Web(5, [(0, 3, 2), (1, 4, 3), (0, 3, 1)], bottom=2)
-
-
-def balanced(random, web):
-    """A demand with the sum 0 in every part."""
-    demand = [random.randint(-9, 9) for _ in range(web.places)]
-    for part in parts_of(web):
-        demand[random.choice(part)] -= sum(demand[place] for place in part)
-    return demand
 
 
 class Heights(unittest.TestCase):

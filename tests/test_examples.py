@@ -113,6 +113,30 @@ EXAMPLES = '''
 >>> web = Web(2, [(0, 1, 2)])
 >>> [heights(web, ((1, -1), 1)), tie_currents(web, ((1, 0), 2)), outflow(web, ((1,), 1))]
 [((1, 0), 2), ((1,), 1), ((1, -1), 1)]
+
+>>> from fourcords.losses import flow_loss, height_bound, least_loss
+>>> [flow_loss(web, ((1,), 1)), height_bound(web, ((1, -1), 1), ((1, 0), 1)), least_loss(web, ((1, -1), 1))]
+[(1, 2), (0, 1), (1, 2)]
+
+>>> from fourcords.resistances import resistance, tie_shares, forest_weight
+>>> [resistance(Web.complete(3), 0, 1), tie_shares(Web.complete(3)), forest_weight(Web.complete(3))]
+[(2, 3), ((2, 3), (2, 3), (2, 3)), (3, 1)]
+
+>>> from fourcords.seenwebs import seen_web
+>>> seen_web(Web.ring(4), (0, 2)).ties
+((0, 1, 1),)
+
+>>> from fourcords.rounds import rounds, rounds_needed
+>>> stops = list(rounds(Form([[1]]), Form([[2]]), (2, 1), ((1,), 1), count=1))
+>>> [stops[0].heights, stops[0].low, stops[0].high, stops[1].heights, stops[1].low, stops[1].high]
+[((0,), 1), (1, 2), (1, 1), ((2,), 3), (17, 18), (1, 1)]
+>>> rounds_needed((29, 3), (1, 100))
+12
+
+>>> from fourcords.surveys import Survey, misfit, best_guess, least_misfit
+>>> survey = Survey(1, [((1,), 1, 1), ((1,), 4, 1)])
+>>> [best_guess(survey), least_misfit(survey), misfit(survey, ((0,), 1))]
+[((5,), 2), (9, 2), (17, 1)]
 '''
 
 
@@ -125,10 +149,10 @@ class Examples(unittest.TestCase):
         self.assertEqual(results.attempted, count)
 
     def test_examples_of_the_interface(self):
-        self.check(EXAMPLES, 58)
+        self.check(EXAMPLES, 71)
 
     def test_examples_of_the_readme(self):
-        self.check(README.read_text(encoding="ascii").replace("```", ""), 27)
+        self.check(README.read_text(encoding="ascii").replace("```", ""), 41)
 
 
 if __name__ == "__main__":

@@ -4,13 +4,15 @@ import copy
 import unittest
 from math import gcd
 
-from fourcords import (bases, comparing, currents, cuts, factors, inverses, judging, parts, ratios, seen, shares,
-                       sparing, thinning, thinwebs)
+from fourcords import (bases, comparing, currents, cuts, factors, inverses, judging, losses, parts, ratios,
+                       resistances, seen, seenwebs, shares, sparing, surveys, thinning, thinwebs)
 from fourcords.errors import CordError
 from fourcords.forms import Form
+from fourcords.rounds import Stop, rounds, rounds_needed
 from fourcords.rowlists import RowList
 from fourcords.runs import Run, picks, resumed
 from fourcords.stands import Stand
+from fourcords.surveys import Survey
 from fourcords.webs import Web
 from reference import BIG, HUGE, as_lists, as_tuples, has_list
 
@@ -27,7 +29,15 @@ ORDER = [4, 2, 3, 1, 0]
 TIES = [[2, 0, 4], [0, 1, 6], [1, 2, 2], [0, 2, 8]]
 WEB = Web(4, TIES, bottom=6)
 OTHER_WEB = Web(4, [[0, 1, 3]])
+READINGS = [([1, 0], 3, 2), ([0, 1], -1, 4), ([1, 1], 5, 6), ([1, 0], 4, 2)]
+SURVEY = Survey(2, READINGS, bottom=8)
 SQUARES = [(2, 4, [2, 1, 0]), (3, 2, [0, 1, 0])]
+
+
+
+def all_stops(form, helper, factor, demand, start):
+    return tuple(rounds(form, helper, factor, demand, count=2, start=start))
+
 
 # What is asked, and its arguments with lists and with fractions and vectors that are not in lowest terms.
 QUESTIONS = [
@@ -128,6 +138,27 @@ QUESTIONS = [
     ("NoSolution heights", currents.heights, [WEB, [[4, -6, 0, 2], 4]]),
     ("tie_currents", currents.tie_currents, [WEB, [[4, -6, 2, 0], 4]]),
     ("outflow", currents.outflow, [WEB, [[4, -6, 2, 0], 4]]),
+    ("flow_loss", losses.flow_loss, [WEB, [[4, -6, 2, 0], 4]]),
+    ("height_bound", losses.height_bound, [WEB, [[4, -6, 2, 0], 4], [[2, 0, -2, 6], 6]]),
+    ("least_loss", losses.least_loss, [WEB, [[4, -6, 2, 0], 4]]),
+    ("NoSolution least_loss", losses.least_loss, [WEB, [[4, -6, 0, 2], 4]]),
+    ("resistance", resistances.resistance, [WEB, 2, 0]),
+    ("resistance None", resistances.resistance, [WEB, 2, 3]),
+    ("tie_shares", resistances.tie_shares, [WEB]),
+    ("forest_weight", resistances.forest_weight, [WEB]),
+    ("seen_web", seenwebs.seen_web, [WEB, [3, 2, 0]]),
+    ("rounds", all_stops, [FORM, FORM, [4, 2], [[2, 4, 0], 6], [[2, 4, 6], 4]]),
+    ("rounds below", all_stops, [BELOW, FORM, [4, 2], [[2, 4, 0], 6], [[2, 4, 6], 4]]),
+    ("NotWithin", all_stops, [FORM, OTHER, [4, 2], [[2, 4, 0], 6], [[2, 4, 6], 4]]),
+    ("NoSolution rounds", all_stops, [FORM, FORM, [4, 2], [[2, 4, 2], 6], [[2, 4, 6], 4]]),
+    ("rounds_needed", rounds_needed, [[58, 6], [2, 200]]),
+    ("Survey", Survey, [2, READINGS]),
+    ("BadRow survey", Survey, [1, READINGS]),
+    ("BadWeight survey", Survey, [1, [[[1], 3, 1], [[1], 3, 0]]]),
+    ("misfit", surveys.misfit, [SURVEY, [[4, -6], 4]]),
+    ("best_guess", surveys.best_guess, [SURVEY]),
+    ("least_misfit", surveys.least_misfit, [SURVEY]),
+    ("few_readings", lambda order: surveys.few_readings(SURVEY, order=order), [[3, 2, 0, 1]]),
 ]
 
 LOWEST = {
@@ -144,15 +175,24 @@ LOWEST = {
     "moved outside": [(1, 4), (2, 1), 1, 50000], "lets": [(1, 4), (2, 1), 1, 20], "stand.room": [(1, 4), (2, 1), 1],
     "low fence": [(10, 1), (2, 1), 1], "narrow_sides": [WEB, (7, 3)], "heights": [WEB, ((2, -3, 1, 0), 2)],
     "NoSolution heights": [WEB, ((2, -3, 0, 1), 2)], "tie_currents": [WEB, ((2, -3, 1, 0), 2)],
-    "outflow": [WEB, ((2, -3, 1, 0), 2)],
+    "outflow": [WEB, ((2, -3, 1, 0), 2)], "flow_loss": [WEB, ((2, -3, 1, 0), 2)],
+    "height_bound": [WEB, ((2, -3, 1, 0), 2), ((1, 0, -1, 3), 3)], "least_loss": [WEB, ((2, -3, 1, 0), 2)],
+    "NoSolution least_loss": [WEB, ((2, -3, 0, 1), 2)], "rounds_needed": [(29, 3), (1, 100)],
+    "rounds": [FORM, FORM, (2, 1), ((1, 2, 0), 3), ((1, 2, 3), 2)],
+    "rounds below": [BELOW, FORM, (2, 1), ((1, 2, 0), 3), ((1, 2, 3), 2)],
+    "NotWithin": [FORM, OTHER, (2, 1), ((1, 2, 0), 3), ((1, 2, 3), 2)],
+    "NoSolution rounds": [FORM, FORM, (2, 1), ((1, 2, 1), 3), ((1, 2, 3), 2)], "misfit": [SURVEY, ((2, -3), 2)],
 }
-OBJECTS = (Form, RowList, Stand, Run, Web)
+PASSED = (FORM, OTHER, BELOW, ROWS, FEW, STAND, RUN, WEB, OTHER_WEB, SURVEY)
+OBJECTS = (Form, RowList, Stand, Run, Web, Stop, Survey)
 
 
 def plain(answer):
     """The answer with the fields of objects instead of the objects."""
     if isinstance(answer, OBJECTS) or hasattr(answer, "holds"):
         return {name: plain(field) for name, field in vars(answer).items()}
+    if isinstance(answer, tuple):
+        return tuple(plain(part) for part in answer)
     return answer
 
 
@@ -185,7 +225,7 @@ class Arguments(unittest.TestCase):
             with self.subTest(name):
                 given = as_lists(arguments)
                 before = copy.deepcopy(given)
-                objects = [(part, copy.deepcopy(plain(part))) for part in (FORM, OTHER, BELOW, ROWS, FEW, STAND, RUN, WEB)]
+                objects = [(part, copy.deepcopy(plain(part))) for part in PASSED]
                 answer_to(ask, given)
                 for one, two in zip(given, before):
                     self.assertEqual(plain(one), plain(two))

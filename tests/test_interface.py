@@ -22,6 +22,11 @@ FUNCTIONS = {
     "cuts": {"cut": 2, "sides": 1, "narrow_sides": 2, "least_cut": 3, "cut_range": 2},
     "thinwebs": {"thinned_web": (1, "grade", "order")},
     "currents": {"heights": 2, "tie_currents": 2, "outflow": 2},
+    "losses": {"flow_loss": 2, "height_bound": 3, "least_loss": 2},
+    "resistances": {"resistance": 3, "tie_shares": 1, "forest_weight": 1},
+    "seenwebs": {"seen_web": 2},
+    "rounds": {"rounds": (4, "count", "start"), "rounds_needed": 2},
+    "surveys": {"misfit": 2, "best_guess": 1, "least_misfit": 1, "few_readings": (1, "grade", "order")},
 }
 METHODS = {
     "forms.Form": {"__init__": (1, "bottom"), "__call__": 1, "between": 2, "at": 1, "applied": 1, "scaled": 1},
@@ -29,9 +34,10 @@ METHODS = {
     "stands.Stand": {"__init__": (4, "unit"), "numbers": 2, "moved": 4, "lets": 4, "room": 3},
     "runs.Run": {"__init__": (1, "grade"), "taken": 2, "room": 1, "pick": (0, "order"), "kept": 0},
     "webs.Web": {"__init__": (2, "bottom"), "picked": 1},
+    "surveys.Survey": {"__init__": (2, "bottom")},
 }
 # What is passed by name and may be left out.
-DEFAULTS = {"grade": 2, "order": None, "unit": 10, "strength": 1}
+DEFAULTS = {"grade": 2, "order": None, "unit": 10, "strength": 1, "start": None}
 CLASSES = {
     "forms": {"Form": ["__init__", "__add__", "__sub__", "__eq__", "__call__", "between", "at", "applied", "scaled",
                        "zero", "square"]},
@@ -41,11 +47,14 @@ CLASSES = {
     "stands": {"Stand": ["__init__", "numbers", "moved", "lets", "room"]},
     "runs": {"Run": ["__init__", "taken", "room", "pick", "kept"]},
     "webs": {"Web": ["__init__", "__len__", "__iter__", "__eq__", "picked", "complete", "ring", "grid", "of_rows"]},
+    "rounds": {"Stop": []},
+    "surveys": {"Survey": ["__init__", "__len__"]},
 }
 FIELDS = {
     "stands.Stand": "rows counts low high unit form low_measure high_measure",
     "runs.Run": "rows grade log stand left",
     "webs.Web": "places ties bottom rows form",
+    "surveys.Survey": "size readings bottom rows",
 }
 
 
@@ -86,10 +95,11 @@ class Interface(unittest.TestCase):
                             (web.grid, (2, "strength")), (web.of_rows, 1)):
             self.check(made, asked)
 
-    def test_bottoms_of_factors_must_be_passed(self):
-        for told in ("least_high", "greatest_low"):
-            bottom = inspect.signature(getattr(module("factors"), told)).parameters["bottom"]
-            self.assertIs(bottom.default, bottom.empty)
+    def test_what_must_be_passed_by_name(self):
+        for name, told, asked in (("factors", "least_high", "bottom"), ("factors", "greatest_low", "bottom"),
+                                  ("rounds", "rounds", "count")):
+            parameter = inspect.signature(getattr(module(name), told)).parameters[asked]
+            self.assertIs(parameter.default, parameter.empty)
 
     def test_classes(self):
         for name, classes in CLASSES.items():
@@ -101,7 +111,8 @@ class Interface(unittest.TestCase):
 
     def test_bottoms_are_passed_by_name(self):
         form, rows, web = module("forms").Form, module("rowlists").RowList, module("webs").Web
-        for kind, arguments in ((form, ([[1]],)), (rows, (1, [])), (web, (1, []))):
+        survey = module("surveys").Survey
+        for kind, arguments in ((form, ([[1]],)), (rows, (1, [])), (web, (1, [])), (survey, (1, []))):
             bottom = inspect.signature(kind).parameters["bottom"]
             self.assertEqual((bottom.kind, bottom.default), (bottom.KEYWORD_ONLY, 1))
             with self.assertRaises(TypeError):
@@ -111,7 +122,7 @@ class Interface(unittest.TestCase):
     def test_fields_of_objects(self):
         rows = module("rowlists").RowList(1, [((1,), 2)])
         made = {"stands.Stand": module("stands").Stand(rows, (1,), (0, 1), (9, 1)), "runs.Run": module("runs").Run(rows),
-                "webs.Web": module("webs").Web(2, [])}
+                "webs.Web": module("webs").Web(2, []), "surveys.Survey": module("surveys").Survey(2, [])}
         for name, fields in FIELDS.items():
             self.assertEqual(sorted(vars(made[name])), sorted(fields.split()))
 
@@ -123,6 +134,9 @@ class Interface(unittest.TestCase):
         told = module("comparing").within(form, form, (0, 1), (1, 1))
         self.assertIsInstance(told, module("comparing").Within)
         self.assertEqual(sorted(vars(told)), ["holds", "over", "point", "side", "under"])
+        for told in module("rounds").rounds(form, form, (1, 1), ((1,), 1), count=1):
+            self.assertIsInstance(told, module("rounds").Stop)
+            self.assertEqual(sorted(vars(told)), ["heights", "high", "low", "residual"])
 
 
 if __name__ == "__main__":
