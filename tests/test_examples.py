@@ -137,6 +137,32 @@ EXAMPLES = '''
 >>> survey = Survey(1, [((1,), 1, 1), ((1,), 4, 1)])
 >>> [best_guess(survey), least_misfit(survey), misfit(survey, ((0,), 1))]
 [((5,), 2), (9, 2), (17, 1)]
+
+>>> from fourcords.questions import spread
+>>> spread(survey, (1,))
+(1, 2)
+
+>>> from fourcords.thintrees import ThinTree, tree_factor
+>>> tree = ThinTree(1, height=1)
+>>> tree.put(0, RowList(1, [((1,), 1)]))
+>>> [tree.root.pairs, tree.thinnings, tree_factor(tree)]
+[(((1,), 2),), 1, (29, 3)]
+
+>>> from fourcords.rownotes import format_rows
+>>> format_rows(RowList(2, [((1, -1), 3)], bottom=4))
+'rows 1 size 2 over 4\\n3: 1 -1\\n'
+
+>>> from fourcords.webnotes import format_web
+>>> format_web(Web(3, [(2, 0, 5)]))
+'web 1 places 3 over 1\\n0-2: 5\\n'
+
+>>> from fourcords.lognotes import format_log
+>>> format_log(((0, 10),))
+'log 1\\ntake 0 by 10\\n'
+
+>>> from fourcords.squarenotes import format_squares
+>>> format_squares(((1, 2, (2, 1)),))
+'squares 1 size 2\\n1/2 of 2 1\\n'
 '''
 
 
@@ -149,10 +175,10 @@ class Examples(unittest.TestCase):
         self.assertEqual(results.attempted, count)
 
     def test_examples_of_the_interface(self):
-        self.check(EXAMPLES, 71)
+        self.check(EXAMPLES, 85)
 
     def test_examples_of_the_readme(self):
-        self.check(README.read_text(encoding="ascii").replace("```", ""), 41)
+        self.check(README.read_text(encoding="ascii").replace("```", ""), 51)
 
 
 if __name__ == "__main__":

@@ -1,11 +1,12 @@
-"""Points 2 to 5, for every function and method that has landed."""
+"""Points 2 to 5, for every function and method of the program."""
 
 import copy
 import unittest
 from math import gcd
 
-from fourcords import (bases, comparing, currents, cuts, factors, inverses, judging, losses, parts, ratios,
-                       resistances, seen, seenwebs, shares, sparing, surveys, thinning, thinwebs)
+from fourcords import (bases, comparing, currents, cuts, errors, factors, grades, inverses, judging, lognotes, losses,
+                       parts, questions, ratios, resistances, rownotes, seen, seenwebs, shares, sparing, squarenotes,
+                       surveys, thinning, thintrees, thinwebs, webnotes)
 from fourcords.errors import CordError
 from fourcords.forms import Form
 from fourcords.rounds import Stop, rounds, rounds_needed
@@ -13,6 +14,7 @@ from fourcords.rowlists import RowList
 from fourcords.runs import Run, picks, resumed
 from fourcords.stands import Stand
 from fourcords.surveys import Survey
+from fourcords.thintrees import ThinTree
 from fourcords.webs import Web
 from reference import BIG, HUGE, as_lists, as_tuples, has_list
 
@@ -31,12 +33,20 @@ WEB = Web(4, TIES, bottom=6)
 OTHER_WEB = Web(4, [[0, 1, 3]])
 READINGS = [([1, 0], 3, 2), ([0, 1], -1, 4), ([1, 1], 5, 6), ([1, 0], 4, 2)]
 SURVEY = Survey(2, READINGS, bottom=8)
+FEW_READINGS = surveys.few_readings(SURVEY)
+SUM_OF_TWO = Survey(2, [([1, 1], 5, 2)])
 SQUARES = [(2, 4, [2, 1, 0]), (3, 2, [0, 1, 0])]
-
-
 
 def all_stops(form, helper, factor, demand, start):
     return tuple(rounds(form, helper, factor, demand, count=2, start=start))
+
+
+def told_by_tree(slot, rows):
+    """What a tree tells behind putting a list into a slot."""
+    tree = ThinTree(3, height=1)
+    tree.put(1, FEW)
+    put = tree.put(slot, rows)
+    return put, tree.root, tree.held(slot), tree.at(1, 0), tree.thinnings, thintrees.tree_factor(tree)
 
 
 # What is asked, and its arguments with lists and with fractions and vectors that are not in lowest terms.
@@ -159,6 +169,27 @@ QUESTIONS = [
     ("best_guess", surveys.best_guess, [SURVEY]),
     ("least_misfit", surveys.least_misfit, [SURVEY]),
     ("few_readings", lambda order: surveys.few_readings(SURVEY, order=order), [[3, 2, 0, 1]]),
+    ("spread", questions.spread, [SURVEY, [2, -1]]),
+    ("spread None", questions.spread, [SUM_OF_TWO, [2, -1]]),
+    ("worst_question", lambda *told: questions.worst_question(*told, bottom=7), [SURVEY, FEW_READINGS]),
+    ("worst_question None", lambda *told: questions.worst_question(*told, bottom=7), [SURVEY, SURVEY]),
+    ("tree", told_by_tree, [0, ROWS]),
+    ("BadSlot", told_by_tree, [2, ROWS]),
+    ("SizesDiffer tree", told_by_tree, [0, RowList(1, [])]),
+    ("format_rows", rownotes.format_rows, [ROWS]),
+    ("parse_rows", rownotes.parse_rows, [rownotes.format_rows(ROWS)]),
+    ("BadNotation rows", rownotes.parse_rows, ["rows 1 size 1 over 1\n1: -0\n"]),
+    ("format_web", webnotes.format_web, [WEB]),
+    ("parse_web", webnotes.parse_web, [webnotes.format_web(WEB)]),
+    ("BadNotation web", webnotes.parse_web, ["web 1 places 2 over 2\n0-1: 2\n"]),
+    ("format_log", lognotes.format_log, [LOG]),
+    ("parse_log", lognotes.parse_log, [lognotes.format_log(LOG)]),
+    ("BadNotation log", lognotes.parse_log, ["log 1"]),
+    ("format_squares", squarenotes.format_squares, [SQUARES]),
+    ("parse_squares", squarenotes.parse_squares, [squarenotes.format_squares(SQUARES)]),
+    ("BadNotation squares", squarenotes.parse_squares, [""]),
+    ("grades", lambda *told: (grades.grade_steps(*told), grades.grade_fences(*told)), [3, 2]),
+    ("moves", lambda k: (grades.grade_unit(k), grades.grade_moves(k), grades.grade_gap(k), grades.grade_factor(k)), [3]),
 ]
 
 LOWEST = {
@@ -183,7 +214,7 @@ LOWEST = {
     "NotWithin": [FORM, OTHER, (2, 1), ((1, 2, 0), 3), ((1, 2, 3), 2)],
     "NoSolution rounds": [FORM, FORM, (2, 1), ((1, 2, 1), 3), ((1, 2, 3), 2)], "misfit": [SURVEY, ((2, -3), 2)],
 }
-PASSED = (FORM, OTHER, BELOW, ROWS, FEW, STAND, RUN, WEB, OTHER_WEB, SURVEY)
+PASSED = (FORM, OTHER, BELOW, ROWS, FEW, STAND, RUN, WEB, OTHER_WEB, SURVEY, FEW_READINGS, SUM_OF_TWO)
 OBJECTS = (Form, RowList, Stand, Run, Web, Stop, Survey)
 
 
@@ -266,6 +297,113 @@ class Arguments(unittest.TestCase):
         self.assertEqual(bases.missed_point(one, FEW), bases.missed_point(two, FEW))
         wide = Form([[9 * x for x in row] for row in BELOW.entries], bottom=9)
         self.assertEqual(judging.judge(wide).point, judging.judge(BELOW).point)
+
+
+class Errors(unittest.TestCase):
+    """Every class of errors is raised by some question of the program, and keeps what it was raised with."""
+
+    FIELDS = {
+        "ZeroBottom": {}, "NotSquare": {"row": 1}, "NotSymmetric": {"row": 0, "column": 1},
+        "SizesDiffer": {"one": 3, "two": 0}, "BelowZero": {"point": (1,)}, "BadRow": {"index": 0},
+        "BadWeight": {"index": 0}, "NoBasis": {}, "NoSolution": {"point": (1,)}, "NoInverse": {},
+        "OutsideFence": {"side": "low", "point": (1,)}, "RunOver": {}, "BadPick": {"index": 0, "count": 7},
+        "BadStep": {"step": 0}, "StepsLeft": {"left": 8}, "BadTie": {"index": 1}, "SamePlace": {"place": 2},
+        "NotWithin": {"side": "over", "point": (1,)}, "BadSlot": {"slot": 4}, "BadNotation": {"line": 2},
+    }
+
+    def asked(self):
+        one, none = Form([[1]]), RowList(1, [])
+        return {
+            "ZeroBottom": lambda: ratios.vector([], 0), "NotSquare": lambda: Form([[1, 1], [1]]),
+            "NotSymmetric": lambda: Form([[1, 1], [2, 1]]), "SizesDiffer": lambda: FORM + Form([]),
+            "BelowZero": lambda: judging.rank(Form([[-1]])), "BadRow": lambda: RowList(2, [([1], 0)]),
+            "BadWeight": lambda: RowList(1, [([1], 0)]), "NoBasis": lambda: bases.coordinates(ROWS, [1, 0], 2),
+            "NoSolution": lambda: inverses.solve(Form([[0]]), ([1], 1)),
+            "NoInverse": lambda: inverses.changed_inverse(one, [1], [-1, 1]),
+            "OutsideFence": lambda: Stand(RowList(1, [([1], 1)]), [0], [0, 1], [1, 1]),
+            "RunOver": lambda: Run(none).pick(), "BadPick": lambda: RUN.taken(0, 7),
+            "BadStep": lambda: resumed(none, [[0, 1]]), "StepsLeft": lambda: RUN.kept(),
+            "BadTie": lambda: Web(2, [[0, 1, 1], [0, 2, 0]]), "SamePlace": lambda: cuts.least_cut(WEB, 2, 2),
+            "NotWithin": lambda: all_stops(one, Form([[3]]), [2, 1], [[0], 1], None),
+            "BadSlot": lambda: ThinTree(1, height=2).put(4, none),
+            "BadNotation": lambda: lognotes.parse_log("log 1\n"),
+        }
+
+    def test_every_class(self):
+        asked = self.asked()
+        self.assertEqual(sorted(asked), sorted(self.FIELDS))
+        for name, ask in asked.items():
+            with self.subTest(name):
+                with self.assertRaises(CordError) as caught:
+                    ask()
+                self.assertIs(type(caught.exception), getattr(errors, name))
+                told = {field: value for field, value in vars(caught.exception).items()}
+                if "point" in told:
+                    # Some point will do, whatever multiple it is.
+                    self.assertTrue(type(told["point"]) is tuple and len(told["point"]) == 1 and told["point"][0] != 0)
+                    told["point"] = (1,)
+                self.assertEqual(told, self.FIELDS[name])
+
+
+class Empty(unittest.TestCase):
+    """The empty end of functions and classes that do not have it in a test of their own."""
+
+    def test_no_pairs(self):
+        for size in (0, 1, 4):
+            rows, form = RowList(size, []), Form.zero(size)
+            self.assertTrue(rows.form == form and rows == rows + rows == rows.scaled((7, 3)) == rows.picked(()))
+            self.assertEqual((len(rows), list(rows), rows.bottom), (0, [], 1))
+            self.assertTrue(sparing.spared(rows) == rows == thinning.thinned(rows) == thinning.thinned(rows, order=()))
+            self.assertEqual((sparing.dependence(rows), bases.basis_of(rows), bases.basis_factor(rows)), (None, (), (1, 1)))
+            self.assertEqual((bases.missed_point(rows, rows), shares.shares(rows)), (None, ()))
+            self.assertEqual((judging.leads(form), judging.rank(form), len(judging.free_points(form))), ((), 0, size))
+            self.assertTrue(inverses.inverse(form) == form == inverses.sandwich(form, form))
+            self.assertEqual((inverses.paired(form, form), inverses.determinant(form)), ((0, 1), (int(size == 0), 1)))
+            self.assertEqual(factors.least_high(form, form, bottom=9), 0)
+            self.assertIsNone(factors.greatest_low(form, form, bottom=9))
+            self.assertTrue(seen.seen_from(form, ()) == Form([]))
+            self.assertEqual(seen.filled(form, (), ()), ((0,) * size, 1))
+            stand = Stand(rows, (), (5, 1), (-5, 1))
+            self.assertEqual((stand.low_measure, stand.high_measure, stand.numbers((1, 1), (1, 1))), ((0, 1), (0, 1), ()))
+            self.assertTrue(stand.form == form)
+            run = Run(rows)
+            self.assertEqual((run.left, run.log, tuple(picks(run)), resumed(rows, ()).left), (0, (), (), 0))
+            self.assertTrue(run.kept() == rows)
+            self.assertTrue(Web.of_rows(rows) == Web(size, []))
+            self.assertTrue(rownotes.parse_rows(rownotes.format_rows(rows)) == rows)
+            tree = ThinTree(size, height=1)
+            tree.put(0, rows)
+            self.assertTrue(tree.root == tree.held(1) == rows)
+
+    def test_no_ties(self):
+        for places in (0, 1, 4):
+            web, zeros = Web(places, []), ((0,) * places, 1)
+            self.assertEqual((len(web), list(web), web.bottom), (0, [], 1))
+            self.assertTrue(web == web.picked([]) == thinwebs.thinned_web(web) == thinwebs.thinned_web(web, order=()))
+            self.assertEqual(parts.parts(web), tuple((place,) for place in range(places)))
+            self.assertEqual((cuts.cut(web, ()), cuts.cut_range(web, web)), ((0, 1), None))
+            self.assertEqual(cuts.narrow_sides(web, (0, 1)), tuple(cuts.sides(places)))
+            self.assertEqual((currents.heights(web, zeros), currents.tie_currents(web, zeros)), (zeros, ((), 1)))
+            self.assertEqual((currents.outflow(web, ((), 1)), losses.flow_loss(web, ((), 1))), (zeros, (0, 1)))
+            self.assertEqual((losses.least_loss(web, zeros), losses.height_bound(web, zeros, zeros)), ((0, 1), (0, 1)))
+            self.assertEqual((resistances.tie_shares(web), resistances.forest_weight(web)), ((), (1, 1)))
+            self.assertTrue(seenwebs.seen_web(web, range(places)) == web)
+            self.assertTrue(seenwebs.seen_web(web, ()) == Web(0, []))
+            self.assertTrue(webnotes.parse_web(webnotes.format_web(web)) == web)
+            self.assertEqual(len(all_stops(web.form, web.form, (1, 1), zeros, None)), 3)
+
+    def test_no_readings_picks_and_squares(self):
+        for size in (0, 1, 4):
+            survey, zeros = Survey(size, []), ((0,) * size, 1)
+            self.assertEqual((len(survey), survey.readings, survey.bottom), (0, (), 1))
+            self.assertEqual((surveys.best_guess(survey), surveys.least_misfit(survey)), (zeros, (0, 1)))
+            self.assertEqual((surveys.misfit(survey, zeros), surveys.few_readings(survey).readings), ((0, 1), ()))
+            self.assertEqual(questions.spread(survey, (0,) * size), (0, 1))
+            self.assertEqual(questions.worst_question(survey, survey, bottom=3), (3, None))
+            self.assertTrue(judging.is_squares(Form.zero(size), ()))
+            self.assertTrue(comparing.is_within(Form.zero(size), Form.zero(size), (1, 1), (0, 1), (), ()))
+        self.assertEqual(lognotes.parse_log(lognotes.format_log(())), ())
+        self.assertEqual(squarenotes.parse_squares(squarenotes.format_squares(())), ())
 
 
 class Sizes(unittest.TestCase):

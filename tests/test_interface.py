@@ -1,4 +1,4 @@
-"""Names, arguments and places of what the interface lists, as far as it has landed."""
+"""Names, arguments and places of what the interface lists."""
 
 import importlib
 import inspect
@@ -27,6 +27,12 @@ FUNCTIONS = {
     "seenwebs": {"seen_web": 2},
     "rounds": {"rounds": (4, "count", "start"), "rounds_needed": 2},
     "surveys": {"misfit": 2, "best_guess": 1, "least_misfit": 1, "few_readings": (1, "grade", "order")},
+    "questions": {"spread": 2, "worst_question": (2, "bottom")},
+    "thintrees": {"tree_factor": 1},
+    "rownotes": {"format_rows": 1, "parse_rows": 1},
+    "webnotes": {"format_web": 1, "parse_web": 1},
+    "lognotes": {"format_log": 1, "parse_log": 1},
+    "squarenotes": {"format_squares": 1, "parse_squares": 1},
 }
 METHODS = {
     "forms.Form": {"__init__": (1, "bottom"), "__call__": 1, "between": 2, "at": 1, "applied": 1, "scaled": 1},
@@ -35,6 +41,7 @@ METHODS = {
     "runs.Run": {"__init__": (1, "grade"), "taken": 2, "room": 1, "pick": (0, "order"), "kept": 0},
     "webs.Web": {"__init__": (2, "bottom"), "picked": 1},
     "surveys.Survey": {"__init__": (2, "bottom")},
+    "thintrees.ThinTree": {"__init__": (1, "height", "grade"), "put": 2, "held": 1, "at": 2},
 }
 # What is passed by name and may be left out.
 DEFAULTS = {"grade": 2, "order": None, "unit": 10, "strength": 1, "start": None}
@@ -49,6 +56,7 @@ CLASSES = {
     "webs": {"Web": ["__init__", "__len__", "__iter__", "__eq__", "picked", "complete", "ring", "grid", "of_rows"]},
     "rounds": {"Stop": []},
     "surveys": {"Survey": ["__init__", "__len__"]},
+    "thintrees": {"ThinTree": ["__init__", "put", "root", "held", "at", "thinnings"]},
 }
 FIELDS = {
     "stands.Stand": "rows counts low high unit form low_measure high_measure",
@@ -97,7 +105,8 @@ class Interface(unittest.TestCase):
 
     def test_what_must_be_passed_by_name(self):
         for name, told, asked in (("factors", "least_high", "bottom"), ("factors", "greatest_low", "bottom"),
-                                  ("rounds", "rounds", "count")):
+                                  ("rounds", "rounds", "count"), ("questions", "worst_question", "bottom"),
+                                  ("thintrees", "ThinTree", "height")):
             parameter = inspect.signature(getattr(module(name), told)).parameters[asked]
             self.assertIs(parameter.default, parameter.empty)
 
@@ -125,6 +134,11 @@ class Interface(unittest.TestCase):
                 "webs.Web": module("webs").Web(2, []), "surveys.Survey": module("surveys").Survey(2, [])}
         for name, fields in FIELDS.items():
             self.assertEqual(sorted(vars(made[name])), sorted(fields.split()))
+        tree = module("thintrees").ThinTree(3, height=2, grade=4)
+        self.assertEqual((tree.size, tree.height, tree.grade, tree.thinnings), (3, 2, 4, 0))
+        for name in ("root", "thinnings"):
+            with self.assertRaises(AttributeError):
+                setattr(tree, name, 1)
 
     def test_fields_of_answers(self):
         form = module("forms").Form([[1]])
