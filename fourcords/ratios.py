@@ -29,9 +29,17 @@ def fraction(top, bottom):
     return tops[0], lowest_bottom
 
 
+def joined(one, two):
+    """Return by what tops over two bottoms must be multiplied to stand over a common one, and this bottom."""
+    # Long bottoms often have most of their divisors in common, and less is left to divide by later.
+    shared = gcd(one, two)
+    return two // shared, one // shared, one * (two // shared)
+
+
 def added(one, two):
     """Return the sum of two fractions."""
-    return fraction(one[0] * two[1] + two[0] * one[1], one[1] * two[1])
+    left, right, bottom = joined(one[1], two[1])
+    return fraction(one[0] * left + two[0] * right, bottom)
 
 
 def multiplied(one, two):
@@ -41,7 +49,7 @@ def multiplied(one, two):
 
 def subtracted(one, two):
     """Return the difference of two fractions."""
-    return fraction(one[0] * two[1] - two[0] * one[1], one[1] * two[1])
+    return added(one, (-two[0], two[1]))
 
 
 def divided(one, two):

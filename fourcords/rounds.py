@@ -2,7 +2,6 @@
 
 from fourcords.comparing import within
 from fourcords.errors import NotWithin
-from fourcords.forms import check_sizes
 from fourcords.inverses import inverse, solve
 from fourcords.judging import checked_squares
 from fourcords.ratios import added, compared, divided, fraction, multiplied, subtracted, vector
@@ -22,7 +21,7 @@ class Stop:
 def check_question(form, helper, factor, demand):
     """Raise the error that is due if the rounds cannot be made."""
     checked_squares(form)
-    check_sizes(form, helper)
+    # This looks at the sizes first of all.
     answer = within(form, helper, (1, 1), factor)
     if not answer.holds:
         raise NotWithin(answer.side, answer.point)

@@ -1,7 +1,7 @@
 """Products and sums of vectors, and the bound that a vector gives for a loss."""
 
 from fourcords.forms import product_of
-from fourcords.ratios import fraction, multiplied, subtracted, vector
+from fourcords.ratios import fraction, joined, multiplied, subtracted, vector
 
 
 def vector_product(one, two):
@@ -15,9 +15,9 @@ def vector_sum(one, two, factor):
     """Return the first vector plus a fraction times the second one."""
     numbers, bottom = one
     others, other_bottom = two
-    top, factor_bottom = factor
-    both = bottom * other_bottom * factor_bottom
-    return vector([x * other_bottom * factor_bottom + y * top * bottom for x, y in zip(numbers, others)], both)
+    left, right, both = joined(bottom, other_bottom * factor[1])
+    times = right * factor[0]
+    return vector([x * left + y * times for x, y in zip(numbers, others)], both)
 
 
 def bound_at(form, demand, levels):
